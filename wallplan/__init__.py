@@ -1,0 +1,1 @@
+"""Wallplan: walls that join and are moved, and no room lost."""

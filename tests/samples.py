@@ -4,6 +4,14 @@ import random
 
 EMPTY = ((), ())
 
+# Things of the kinds that may be handed in and of others, none of them a net.
+STRANGE = (
+    None, True, False, "", "1", "ab", "0\t1\n", -1, 1, 10 ** 30, (), [], [()], ((),), (None,), (True, False),
+    [[], []], [(), ()], ((), []), ([], ()), ((), (), ()), ((), None), (None, ()), ("", ""), ("ab", "cd"), (0, 0),
+    1.0, 0.5, b"", b"ab", {}, {0: 1}, set(), frozenset(), {1}, object(), range(2), int, len, [[[[[[[]]]]]]],
+    (((((((),),),),),),), [({"a": [None]}, b"x")], ({}, {}), (set(), set()), ("", ()), ((), ""), (b"", b""),
+)
+
 
 def net_of(lines, numbers=None):
     """The net of lines (x, y, u, v); corners are numbered by rising spots, or by these numbers in that order."""
@@ -52,6 +60,18 @@ def lattice(xs, ys):
     return level + upright
 
 
+def lattice_lines(many, step=1):
+    """So many lines, 59 to 104, of a lattice of six times ten spots, those first by which all spots are joined."""
+    xs, ys = range(0, 6 * step, step), range(0, 10 * step, step)
+    kept = lattice(xs[5:], ys) + [(x, y, u, y) for x, u in zip(xs, xs[1:]) for y in ys]
+    return (kept + [line for line in lattice(xs, ys) if line not in kept])[:many]
+
+
+def lattice_net(many, step=1, numbers=None):
+    """The net of so many of these lines, with sixty corners."""
+    return net_of(lattice_lines(many, step), numbers)
+
+
 def chance_net(seed):
     """A small net, by chance, but the same for the same seed."""
     chance = random.Random(seed)
@@ -89,6 +109,17 @@ def chance_nest(seed):
 def chance_nets():
     """Some of both."""
     return [chance_net(seed) for seed in range(60)] + [chance_nest(seed) for seed in range(40)]
+
+
+def great_nets():
+    """Nets with as much as a net may have."""
+    most = 10 ** 6
+    return [
+        lattice_net(90), lattice_net(90, 100000, range(999, 939, -1)), lattice_net(59, most // 9),
+        net_of([(k, 0, k + 1, 0) for k in range(59)]), net_of([(k, 0, k, most) for k in range(30)]),
+        net_of([line for k in range(15) for line in box(k, k, most - k, most - k)], range(940, 1000)),
+        net_of([line for k in range(15) for line in box(9 * k, most - 5, 9 * k + 4, most)]),
+    ]
 
 
 def lines_of(net):
@@ -144,3 +175,55 @@ def cell_left_of(net, side):
     if y == v:
         return (x, y) if x < u else (x - 1, y - 1)
     return (x - 1, y) if y < v else (x, y - 1)
+
+
+def changed(thing, path, new):
+    """The same tuples with another thing at one place."""
+    if not path:
+        return new
+    at = path[0]
+    return thing[:at] + (changed(thing[at], path[1:], new),) + thing[at + 1:]
+
+
+def paths(thing):
+    """The places of all things within tuples, the whole too."""
+    found = [()]
+    if isinstance(thing, tuple):
+        for at, within in enumerate(thing):
+            found += [(at, *path) for path in paths(within)]
+    return found
+
+
+def at_path(thing, path):
+    for at in path:
+        thing = thing[at]
+    return thing
+
+
+def listed(thing):
+    return [listed(within) for within in thing] if isinstance(thing, tuple) else thing
+
+
+def same(one, other):
+    """Whether two things are alike, kinds and all."""
+    if type(one) is not type(other):
+        return False
+    if isinstance(one, (tuple, list)):
+        return len(one) == len(other) and all(same(a, b) for a, b in zip(one, other))
+    return one == other
+
+
+def is_plain(thing):
+    """Whether it is made of tuples and whole numbers themselves."""
+    return all(is_plain(within) for within in thing) if type(thing) is tuple else type(thing) is int
+
+
+def spots_on(line):
+    """All spots of a line (x, y, u, v)."""
+    x, y, u, v = line
+    return {(k, j) for k in range(x, u + 1) for j in range(y, v + 1)}
+
+
+def turned(net):
+    """The net with x and y exchanged."""
+    return tuple((c, y, x) for c, x, y in net[0]), net[1]

@@ -4,48 +4,16 @@ import copy
 import unittest
 
 from tests import samples
+from tests.samples import STRANGE, at_path, changed, listed, paths
 from wallplan.errors import NoNet
 from wallplan.nets import is_net, look_net
 
 MOST = 10 ** 6
-STRANGE = (
-    None, True, False, "", "1", "ab", "0\t1\n", -1, 1, 10 ** 30, (), [], [()], ((),), (None,), (True, False),
-    [[], []], [(), ()], ((), []), ([], ()), ((), (), ()), ((), None), (None, ()), ("", ""), ("ab", "cd"), (0, 0),
-    1.0, 0.5, b"", b"ab", {}, {0: 1}, set(), frozenset(), {1}, object(), range(2), int, len, [[[[[[[]]]]]]],
-    (((((((),),),),),),), [({"a": [None]}, b"x")], ({}, {}), (set(), set()), ("", ()), ((), ""), (b"", b""),
-)
 
 
 def wall_net(one, other):
     """What has two corners, 0 and 1, and a wall from 0 to 1."""
     return ((0, *one), (1, *other)), ((0, 1),)
-
-
-def changed(thing, path, new):
-    """The same tuples with another thing at one place."""
-    if not path:
-        return new
-    at = path[0]
-    return thing[:at] + (changed(thing[at], path[1:], new),) + thing[at + 1:]
-
-
-def paths(thing):
-    """The places of all things within tuples, the whole too."""
-    found = [()]
-    if isinstance(thing, tuple):
-        for at, within in enumerate(thing):
-            found += [(at, *path) for path in paths(within)]
-    return found
-
-
-def at_path(thing, path):
-    for at in path:
-        thing = thing[at]
-    return thing
-
-
-def listed(thing):
-    return [listed(within) for within in thing] if isinstance(thing, tuple) else thing
 
 
 class NetTest(unittest.TestCase):
@@ -83,13 +51,10 @@ class NetTest(unittest.TestCase):
         self.yes(samples.net_of([(k, 0, k, 1) for k in range(30)]))
 
     def test_ninety_walls_and_ninety_one(self):
-        lines = samples.lattice(range(6), range(10))
-        kept = samples.lattice([5], range(10)) + [(k, y, k + 1, y) for k in range(5) for y in range(10)]
-        rest = [line for line in lines if line not in kept]
-        ninety = samples.net_of(kept + rest[:90 - len(kept)])
+        ninety = samples.lattice_net(90)
         self.assertEqual((len(ninety[0]), len(ninety[1])), (60, 90))
         self.yes(ninety)
-        ninety_one = samples.net_of(kept + rest[:91 - len(kept)])
+        ninety_one = samples.lattice_net(91)
         self.assertEqual((len(ninety_one[0]), len(ninety_one[1])), (60, 91))
         self.no(ninety_one)
 

@@ -8,12 +8,15 @@ GREATEST_NUMBER = 999
 GREATEST_PLACE = 1000000
 
 
+def is_number(thing):
+    """Whether it is a whole number."""
+    # A truth is an int to Python, but no whole number.
+    return isinstance(thing, int) and not isinstance(thing, bool)
+
+
 def is_whole(thing, least, most):
     """Whether it is a whole number from least to most."""
-    # A truth is an int to Python, but no whole number.
-    if isinstance(thing, bool) or not isinstance(thing, int):
-        return False
-    return least <= thing <= most
+    return is_number(thing) and least <= thing <= most
 
 
 def is_row(thing, length):
@@ -70,24 +73,44 @@ def is_straight(line):
     return one < other and (one[0] == other[0] or one[1] == other[1])
 
 
-def meet_well(line, other):
-    """Whether two straight walls have no spot in common but one that is an end of both."""
-    (a, b), (c, d) = line, other
+def overlap(oblong, other):
+    """What two closed oblongs, told by their least and greatest spots, have in common, or None; a line is one too."""
+    (a, b), (c, d) = oblong, other
     low = (max(a[0], c[0]), max(a[1], c[1]))
     high = (min(b[0], d[0]), min(b[1], d[1]))
     if low[0] > high[0] or low[1] > high[1]:
+        return None
+    return (low, high)
+
+
+def meet_well(line, other):
+    """Whether two straight walls have no spot in common but one that is an end of both."""
+    shared = overlap(line, other)
+    if shared is None:
         return True
+    low, high = shared
     return low == high and low in line and low in other
 
 
-def all_meet_well(lines):
-    """Whether each two of these walls meet well."""
-    return all([meet_well(line, other) for k, line in enumerate(lines) for other in lines[:k]])
+def all_meet_well(walls):
+    """Whether each two of these straight walls, told as lines, meet well."""
+    return all([meet_well(line, other) for k, line in enumerate(walls) for other in walls[:k]])
 
 
 def spots(net):
     """Each corner's spot by its number."""
     return {c: (x, y) for c, x, y in net[0]}
+
+
+def lines(net):
+    """Each wall's line, in the order of the walls: the spots of its two ends."""
+    at = spots(net)
+    return [(at[a], at[b]) for a, b in net[1]]
+
+
+def has_corner(net, thing):
+    """Whether it, anything, is the number of one of the net's corners."""
+    return is_number(thing) and thing in spots(net)
 
 
 def is_net(thing):
@@ -97,9 +120,8 @@ def is_net(thing):
     corners, walls = thing
     if not are_corners(corners) or not are_walls(walls) or not are_joined(corners, walls):
         return False
-    at = spots(thing)
-    lines = [(at[a], at[b]) for a, b in walls]
-    return all([is_straight(line) for line in lines]) and all_meet_well(lines)
+    drawn = lines(thing)
+    return all([is_straight(line) for line in drawn]) and all_meet_well(drawn)
 
 
 def look_net(thing):

@@ -70,6 +70,14 @@ def fields(package):
     }
 
 
+def methods(package):
+    """The names of all methods of the package's own classes."""
+    return {
+        node.name for _, tree in package for kind in tree.body if isinstance(kind, ast.ClassDef)
+        for node in kind.body if isinstance(node, ast.FunctionDef)
+    }
+
+
 class FormTest(unittest.TestCase):
     def test_the_package_holds_plain_files_alone(self):
         names = [path.name for path in PACKAGE.iterdir() if path.name != "__pycache__"]
@@ -112,6 +120,7 @@ class FormTest(unittest.TestCase):
                     self.assertTrue(all(isinstance(side, ast.Constant) for side in node.comparators), name)
 
     def test_names(self):
+        known = METHODS | fields(trees()) | methods(trees())
         for name, tree in trees():
             bound = bound_names(tree)
             for word in bound - {"__init__", "__all__", "__version__"}:
@@ -122,7 +131,7 @@ class FormTest(unittest.TestCase):
                 if isinstance(node, ast.Name):
                     self.assertIn(node.id, bound | OWN_NAMES, name)
                 elif isinstance(node, ast.Attribute):
-                    self.assertIn(node.attr, METHODS | fields(trees()), name)
+                    self.assertIn(node.attr, known, name)
 
     def test_no_local_is_called_like_an_import_or_a_class(self):
         for name, tree in trees():

@@ -25,17 +25,10 @@ def ring_areas(net):
     return {ring: area_of(net, ring) for ring in rings(net)}
 
 
-def home_beside(homes, side):
-    """The number of the room in which one is to the left of a side, None where that is outside or no side is."""
-    if side is None:
-        return None
-    owners = {own: ring for ring in homes for own in ring_sides(ring)}
-    return homes[owners[side]]
-
-
 def ring_homes(net, areas):
     """Of each ring the number of the room that it shuts in or lies in, None where it lies outside."""
     at = spots(net)
+    owners = {side: ring for ring in areas for side in ring_sides(ring)}
     homes = {}
     rims = []
     for ring in areas:
@@ -46,8 +39,20 @@ def ring_homes(net, areas):
             rims.append((min([at[c] for c in ring]), ring))
     # Rims go by these spots, from west to east, so what lies west of one is settled ahead of it.
     for (x, y), rim in sorted(rims):
-        homes[rim] = home_beside(homes, west_side(net, x - 1, y))
+        beside = west_side(net, x - 1, y)
+        homes[rim] = None if beside is None else homes[owners[beside]]
     return homes
+
+
+def side_homes(net):
+    """Of each side the number of the room to its left, None where that is outside."""
+    homes = ring_homes(net, ring_areas(net))
+    return {side: homes[ring] for ring in homes for side in ring_sides(ring)}
+
+
+def home_at(net, homes, x, y):
+    """The number of the room of which the cell (x, y) is, None outside, where each side's home is known."""
+    return homes.get(west_side(net, x, y))
 
 
 def rims_at(areas, homes, number):
@@ -75,4 +80,4 @@ def outside(net):
 
 def cell_at(net, x, y):
     """The number of the room of which the cell (x, y) is, or None where it is outside."""
-    return home_beside(ring_homes(net, ring_areas(net)), west_side(net, x, y))
+    return home_at(net, side_homes(net), x, y)

@@ -208,7 +208,8 @@ def is_opening_row(net, row):
 
 def is_thing_row(row):
     name, x, y, w, h = row
-    return is_name(name) and all(is_whole(k, 0, 10 ** 6) for k in (x, y)) and all(is_whole(k, 1, 10 ** 6) for k in (w, h))
+    return is_name(name) and all(is_whole(k, 0, 10 ** 6) for k in (x, y)) and all(is_whole(k, 1, 10 ** 6) for k in (w,
+                                                                                                                    h))
 
 
 def are_rows(thing, length, most, test):
@@ -305,6 +306,63 @@ def grown_net(seed, many=9, wide=12):
 @functools.lru_cache(maxsize=None)
 def chance_plans():
     """Some hundred plans of small nets, with holds, openings and things."""
-    nets = [net for net in samples.NAMED.values()] + samples.chance_nets()[::3] + [TWO] * 10
+    nets = list(samples.NAMED.values()) + samples.chance_nets()[::3] + [TWO] * 10
     nets += [grown_net(seed) for seed in range(50)]
     return tuple(chance_plan(seed, net) for seed, net in enumerate(nets))
+
+
+def leads_slowly(plan):
+    """Of each door its name and the rooms of the cells on both sides of its first step, -1 for outside."""
+    net, _, openings, _ = plan
+    found = []
+    for opening in openings:
+        if opening[1] == "door":
+            a, b = opening[2]
+            (x, y), (u, _) = spot_of(net)[a], spot_of(net)[b]
+            k = min(steps(net, opening))
+            beside = ((x, y + k), (x - 1, y + k)) if x == u else ((x + k, y), (x + k, y - 1))
+            found.append((opening[0], *sorted(room_map(net).get(cell, -1) for cell in beside)))
+    return tuple(found)
+
+
+def depths_slowly(plan, w):
+    """The depths, by putting down lesser ones again and again until there are none."""
+    widths = {opening[0]: opening[5] for opening in plan[2]}
+    doors = [lead for lead in leads_slowly(plan) if widths[lead[0]] >= w]
+    known = {room: 10 ** 9 for room in range(len(rooms(plan[0])))}
+    known[-1] = 0
+    for _ in known:
+        for _, one, other in doors:
+            known[one] = min(known[one], known[other] + 1)
+            known[other] = min(known[other], known[one] + 1)
+    return tuple(known[room] if known[room] < 10 ** 9 else None for room in range(len(known) - 1))
+
+
+def with_doors(seed, net, share=70):
+    """A plan of this net with doors on many of its walls, and some windows, by chance."""
+    chance = random.Random(seed)
+    openings = []
+    for name, wall in zip(chance.sample(names(90), len(net[1])), net[1]):
+        if chance.randrange(100) < share and len(openings) < 40:
+            width = chance.randint(1, min(3, length(net, wall)))
+            kind = "window" if chance.randrange(6) == 0 else "door"
+            at = chance.randint(0, length(net, wall) - width)
+            openings.append((name, kind, wall, chance.choice(wall), at, width))
+    return net, (), tuple(sorted(openings)), ()
+
+
+@functools.lru_cache(maxsize=None)
+def door_plans():
+    """Some hundred plans with many doors."""
+    nets = list(samples.NAMED.values()) + samples.chance_nets()[::2] + [grown_net(seed) for seed in range(60)]
+    return tuple(with_doors(seed, net, (30, 50, 70, 90)[seed % 4]) for seed, net in enumerate(nets))
+
+
+def common_slowly(net, other):
+    """What two nets have in common, cell by cell."""
+    one, two = room_map(net), room_map(other)
+    found = {}
+    for cell in set(one) | set(two):
+        pair = one.get(cell, -1), two.get(cell, -1)
+        found[pair] = found.get(pair, 0) + 1
+    return tuple(sorted((*pair, many) for pair, many in found.items()))

@@ -86,7 +86,8 @@ class IsMadeTest(unittest.TestCase):
     def test_parts_more_or_fewer(self):
         opening = ("a", "door", (0, 1), 0, 1, 1)
         self.check(opening, True)
-        for thing in (opening[:5], opening[1:], opening + (1,), opening + opening, list(opening), (opening,), [opening]):
+        for thing in (opening[:5], opening[1:], opening + (1,), opening + opening, list(opening), (opening,),
+                      [opening]):
             self.check(thing, False)
         self.no("a", "door", 0, 1, 0, 1, 1)
 
@@ -191,7 +192,8 @@ class FirstFallenTest(unittest.TestCase):
         ahead = ("a", "door", (0, 1), 0, 20, 5)
         self.check(LEVEL, (ahead, ("b", "door", (0, 1), 0, 1, 5), ("c", "door", (0, 1), 0, 5, 5)), "b")
         self.check(LEVEL, (ahead, ("b", "door", (0, 1), 0, 5, 5), ("c", "door", (0, 1), 0, 1, 5)), "b")
-        self.check(LEVEL, (("a", "door", (0, 1), 0, 3, 5), ("b", "door", (0, 1), 0, 9, 1), ("c", "door", (0, 1), 0, 7, 1)),
+        self.check(LEVEL,
+                   (("a", "door", (0, 1), 0, 3, 5), ("b", "door", (0, 1), 0, 9, 1), ("c", "door", (0, 1), 0, 7, 1)),
                    "a")
 
     def test_one_that_goes_too_far_and_one_in_its_way(self):
@@ -341,7 +343,8 @@ class RiddenTest(unittest.TestCase):
 
     def test_a_wall_is_shorter_by_as_much_as_is_let_by_and_one_more(self):
         # The wall from 0 to 2 is 5 long; behind the first opening 2 are left, ahead of the second one 2.
-        for opening in (("a", "door", (0, 2), 0, 1, 2), ("a", "window", (0, 2), 2, 1, 2), ("a", "door", (0, 2), 2, 0, 3)):
+        for opening in (("a", "door", (0, 2), 0, 1, 2), ("a", "window", (0, 2), 2, 1, 2),
+                        ("a", "door", (0, 2), 2, 0, 3)):
             self.rides(TWO, (opening,), move(TWO, 2, "x", -2), (opening,))
             self.refused(TWO, (opening,), move(TWO, 2, "x", -3), "a")
         # From unlike ends: 1 is left between them.

@@ -127,7 +127,8 @@ class IsPlanTest(unittest.TestCase):
                 self.check(changed(HOUSE, path, list(thing)), False)
 
     def test_truths_for_numbers(self):
-        plan = (net_of(box(0, 0, 4, 4)), (("a", "x", 0, 1, 0, 1),), (("a", "door", (0, 1), 0, 1, 1),), (("a", 1, 0, 1, 1),))
+        plan = (net_of(box(0, 0, 4, 4)), (("a", "x", 0, 1, 0, 1),), (("a", "door", (0, 1), 0, 1, 1),),
+                (("a", 1, 0, 1, 1),))
         self.check(plan, True)
         found = 0
         for path in paths(plan):
@@ -137,7 +138,8 @@ class IsPlanTest(unittest.TestCase):
         self.assertGreater(found, 15)
 
     def test_holds_that_do_not_hold(self):
-        for hold, good in ((("a", "x", 0, 2, 5, 5), True), (("a", "x", 0, 2, 6, 9), False), (("a", "x", 0, 2, 0, 4), False),
+        for hold, good in ((("a", "x", 0, 2, 5, 5), True), (("a", "x", 0, 2, 6, 9), False),
+                           (("a", "x", 0, 2, 0, 4), False),
                            (("a", "y", 0, 1, 8, 8), True), (("a", "y", 0, 1, -8, -8), False)):
             self.check((TWO, (hold,), (), ()), good)
             self.check((TWO, (hold, ("b", "x", 0, 0, 0, 0)), (), ()), good)
@@ -513,7 +515,8 @@ class ThingTest(PlanTest):
         for thing in STRANGE:
             self.refused(NoThing, None, thing_put, HOUSE, thing)
             self.refused(NoThing, None, thing_put, EMPTY, thing)
-        for thing in (("A", 0, 0, 1, 1), ("a", -1, 0, 1, 1), ("a", 0, 0, 0, 1), ("a", 0, 0, 1, MOST + 1), ["a", 0, 0, 1, 1],
+        for thing in (("A", 0, 0, 1, 1), ("a", -1, 0, 1, 1), ("a", 0, 0, 0, 1), ("a", 0, 0, 1, MOST + 1),
+                      ["a", 0, 0, 1, 1],
                       ("a", True, 0, 1, 1), ("a", 0, 0, 1), HOUSE[1][0], HOUSE[2][0]):
             self.refused(NoThing, None, thing_put, HOUSE, thing)
 
@@ -611,6 +614,7 @@ def chance_deed(chance, plan):
 
 class NamesTest(unittest.TestCase):
     def test_all_is_there(self):
-        for name in ("EMPTY", "is_plan", "look_plan", "wall_put", "wall_taken", "group_moved", "hold_put", "opening_put",
+        for name in ("EMPTY", "is_plan", "look_plan", "wall_put", "wall_taken", "group_moved", "hold_put",
+                     "opening_put",
                      "thing_put", "hold_taken", "opening_taken", "thing_taken"):
             self.assertTrue(hasattr(plans, name))

@@ -108,7 +108,8 @@ class RoomOfTest(unittest.TestCase):
         self.check(TWO, (11, 0, 1, 8), 1)
 
     def test_across_a_wall(self):
-        for oblong in ((0, 0, 6, 8), (4, 0, 2, 1), (0, 0, 12, 8), (4, 3, 3, 2), (0, 0, 5, 9), (11, 7, 1, 2), (10, 0, 3, 1)):
+        for oblong in ((0, 0, 6, 8), (4, 0, 2, 1), (0, 0, 12, 8), (4, 3, 3, 2), (0, 0, 5, 9), (11, 7, 1, 2),
+                       (10, 0, 3, 1)):
             self.check(TWO, oblong, None)
 
     def test_outside(self):
@@ -204,7 +205,8 @@ class FirstMisfitTest(unittest.TestCase):
             ((8, 3, 2, 2), True), ((7, 3, 2, 2), False), ((6, 5, 2, 2), True), ((6, 4, 2, 2), False),
             ((5, 3, 1, 2), True), ((5, 3, 2, 2), False), ((6, 1, 2, 2), True), ((6, 2, 2, 2), False),
             ((8, 5, 1, 1), True), ((7, 4, 1, 1), False), ((5, 1, 6, 6), False), ((6, 3, 2, 2), False),
-            ((6, 3, 1, 1), False), ((5, 2, 1, 1), True), ((8, 2, 1, 1), True), ((5, 4, 7, 1), False), ((7, 0, 1, 8), False),
+            ((6, 3, 1, 1), False), ((5, 2, 1, 1), True), ((8, 2, 1, 1), True), ((5, 4, 7, 1), False),
+            ((7, 0, 1, 8), False),
         ):
             other = ("b", *oblong)
             self.check(TWO, (), (one, other), None if good else "a")
@@ -215,8 +217,10 @@ class FirstMisfitTest(unittest.TestCase):
         # The door's places go from (3, 3) to below (7, 5).
         door = ("a", "door", (2, 3), 2, 3, 2)
         for oblong, good in (
-            ((2, 3, 1, 2), True), ((3, 3, 1, 1), False), ((4, 4, 1, 1), False), ((3, 5, 2, 1), True), ((3, 2, 2, 1), True),
-            ((6, 4, 1, 1), False), ((7, 3, 1, 2), True), ((5, 2, 7, 1), True), ((5, 5, 7, 3), True), ((5, 3, 1, 1), False),
+            ((2, 3, 1, 2), True), ((3, 3, 1, 1), False), ((4, 4, 1, 1), False), ((3, 5, 2, 1), True),
+            ((3, 2, 2, 1), True),
+            ((6, 4, 1, 1), False), ((7, 3, 1, 2), True), ((5, 2, 7, 1), True), ((5, 5, 7, 3), True),
+            ((5, 3, 1, 1), False),
             ((0, 0, 5, 8), False), ((6, 0, 6, 8), False), ((7, 0, 5, 8), True), ((0, 0, 3, 8), True),
         ):
             self.check(TWO, (door,), (("a", *oblong),), None if good else "a")

@@ -169,6 +169,13 @@ class NotKnownTest(DeskTest):
                                   "--1", "1-", "1_0", "", "\u0661", "\u00b2", "1" * 5000, "None", "True", TOO_GREAT):
                         self.keeps(desk, " ".join(words[:k] + [other] + words[k + 1:]), "not known")
 
+    def test_no_other_sign_is_a_figure(self):
+        desk = house()
+        for sign in [chr(k) for k in range(32, 127)] + ["\t", "\n"]:
+            if not sign.isdigit():
+                for word in ("1" + sign, "1" + sign + "1", sign, "-" + sign) + ((sign + "1",) if sign != "-" else ()):
+                    self.keeps(desk, f"cell {word} 0", "not known", f"room {word}", "not known")
+
     def test_numbers_of_seven_figures_are_known(self):
         desk = house()
         self.keeps(desk, "wall 0 0 9999999 0", "nowall", "wall -9999999 0 0 0", "nowall",
